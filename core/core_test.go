@@ -1,0 +1,123 @@
+package core
+
+import (
+	"errors"
+	"testing"
+
+	"embassy/api"
+	"embassy/deny"
+)
+
+// inRows gives a machine with one space, and threads in rows.
+func inRows(t *testing.T, rows ...int) Machine {
+	t.Helper()
+	c := api.Config{Spaces: 1}
+	for _, r := range rows {
+		c.Threads = append(c.Threads, api.Place{Row: r})
+	}
+	m, err := New(c)
+	if err != nil {
+		t.Fatal(err)
+	}
+	return m
+}
+
+// wantDenial asks that err is a denial with this code, and was wrapped by who met it.
+func wantDenial(t *testing.T, err error, code api.Errno, by string) {
+	t.Helper()
+	var d deny.Denial
+	if !errors.As(err, &d) || d.Code != code {
+		t.Errorf("%v: want a denial with %d", err, code)
+	}
+	var met deny.Met
+	if !errors.As(err, &met) || met.By != by {
+		t.Errorf("%v: want it met by %s", err, by)
+	}
+}
+
+func TestClock(t *testing.T) {
+	m := inRows(t, 1, 2)
+	for want := range uint64(10) {
+		if m.clock != want {
+			t.Errorf("P3, P7: the clock is at %d, want %d", m.clock, want)
+		}
+		m.Tick()
+		if err := m.Yield(); err != nil {
+			t.Errorf("P7: Yield = %v", err)
+		}
+	}
+}
+
+// No call takes a thread out of its row as long as nothing is sent, so these tests do it by hand.
+func TestNoCurrentThread(t *testing.T) {
+	m := inRows(t, 0, 3)
+	m.rows[3].Leave(1)
+	if n := m.Current(); n != 0 {
+		t.Errorf("P3: Current = %d, want the one of row 0", n)
+	}
+	m.rows[0].Leave(0)
+	if n := m.Current(); n != -1 {
+		t.Errorf("P3: Current = %d, want -1", n)
+	}
+	wantDenial(t, m.Yield(), api.ErrNone, "Yield")
+	if n := m.Current(); n != -1 {
+		t.Errorf("P1: after a Yield that was denied Current = %d", n)
+	}
+	m.Tick()
+	if m.clock != 1 || m.Current() != -1 {
+		t.Errorf("P7: after Tick the clock is at %d, Current = %d", m.clock, m.Current())
+	}
+	if _, err := m.Look(0); err != nil {
+		t.Errorf("P4: Look = %v", err)
+	}
+	if _, err := m.Space(0); err != nil {
+		t.Errorf("P4: Space = %v", err)
+	}
+	for n, th := range m.threads {
+		if th.left != api.Slice {
+			t.Errorf("P7: thread %d has %d ticks left", n, th.left)
+		}
+	}
+}
+
+func TestTickTakesFromTheCurrentThreadAlone(t *testing.T) {
+	m := inRows(t, 1, 1, 0)
+	m.Tick()
+	for n, want := range []int{api.Slice - 1, api.Slice, api.Slice} {
+		if got := m.threads[n].left; got != want {
+			t.Errorf("P7: thread %d has %d ticks left, want %d", n, got, want)
+		}
+	}
+}
+
+func TestWordsComeOutAsNewMemory(t *testing.T) {
+	m := inRows(t, 0)
+	m.threads[0].told.Words = append(make([]int64, 0, api.MaxWords), 4, 5)
+	first, _ := m.Look(0)
+	all := first.Words[:cap(first.Words)]
+	for i := range all {
+		all[i] = -9
+	}
+	second, _ := m.Look(0)
+	if len(second.Words) != 2 || second.Words[0] != 4 || second.Words[1] != 5 {
+		t.Errorf("P2: Words = %v", second.Words)
+	}
+	if kept := m.threads[0].told.Words[:api.MaxWords]; kept[2] != 0 || kept[3] != 0 {
+		t.Errorf("P2: the spare room of what is kept was written into: %v", kept)
+	}
+}
+
+func TestWhoMeetsADenial(t *testing.T) {
+	m := inRows(t, 0)
+	_, err := m.Look(1)
+	wantDenial(t, err, api.ErrArg, "Look")
+	_, err = m.Space(1)
+	wantDenial(t, err, api.ErrArg, "Space")
+	_, err = New(api.Config{})
+	wantDenial(t, err, api.ErrConfig, "New")
+	_, err = New(api.Config{Spaces: 1, Threads: []api.Place{{}, {Row: 4}}})
+	wantDenial(t, err, api.ErrConfig, "New")
+	if want := "New: thread 1: denied with error 1"; err == nil || err.Error() != want {
+		t.Errorf("New = %v, want %s", err, want)
+	}
+}

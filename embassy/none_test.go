@@ -1,0 +1,45 @@
+package embassy
+
+import (
+	"errors"
+	"testing"
+
+	"embassy/api"
+	"embassy/deny"
+)
+
+// A kernel without threads is the only one with no current thread as long as nothing is sent.
+func TestNoneIsCurrent(t *testing.T) {
+	var k Kernel
+	if n := k.Current(); n != -1 {
+		t.Errorf("P3: Current = %d, want -1", n)
+	}
+	if e := k.Yield(); e != api.ErrNone {
+		t.Errorf("P4: Yield = %d, want ErrNone", e)
+	}
+	k.Tick()
+	if _, e := k.Look(0); e != api.ErrArg {
+		t.Errorf("P10: Look = %d, want ErrArg", e)
+	}
+	if _, e := k.Space(0); e != api.ErrArg {
+		t.Errorf("P10: Space = %d, want ErrArg", e)
+	}
+}
+
+func TestNumberOfADenial(t *testing.T) {
+	if e := number(nil); e != api.OK {
+		t.Errorf("number(nil) = %d", e)
+	}
+	for code := api.ErrConfig; code <= api.ErrPage; code++ {
+		var err error = deny.Denial{Code: code}
+		for range 3 {
+			if e := number(err); e != code {
+				t.Errorf("number(%v) = %d, want %d", err, e, code)
+			}
+			err = deny.Met{By: "somebody", Err: err}
+		}
+	}
+	if e := number(errors.Join(errors.New("other"), deny.Denial{Code: api.ErrBusy})); e != api.ErrBusy {
+		t.Errorf("number of joined errors = %d", e)
+	}
+}
