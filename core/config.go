@@ -90,10 +90,6 @@ func each[T any](kind string, list []T, add func(T) error) error {
 	return nil
 }
 
-func between(n, least, most int) bool {
-	return least <= n && n <= most
-}
-
 func noConfig() error {
 	return deny.Denial{Code: api.ErrConfig}
 }

@@ -1,4 +1,4 @@
-// Package core: the machine inside a kernel: its threads, rows and spaces. What it denies, it denies by the errors of package deny.
+// Package core: the machine inside a kernel: its threads, rows, spaces and frames. What it denies, it denies by the errors of package deny.
 package core
 
 import (
@@ -20,6 +20,7 @@ type Machine struct {
 	threads []thread
 	rows    [api.Rows]line.Line[int]
 	spaces  []space
+	frames  [api.Frames]frame
 }
 
 type thread struct {
@@ -48,20 +49,21 @@ func below(n, bound int) bool {
 	return 0 <= n && n < bound
 }
 
-// thread finds the thread n.
-func (m *Machine) thread(n int) (*thread, error) {
-	if !below(n, len(m.threads)) {
-		return nil, deny.Denial{Code: api.ErrArg}
-	}
-	return &m.threads[n], nil
+func between(n, least, most int) bool {
+	return least <= n && n <= most
 }
 
-// space finds the space n.
-func (m *Machine) space(n int) (*space, error) {
-	if !below(n, len(m.spaces)) {
+// holds tells if all of the rights asked are among those that one has.
+func holds(has, asked int) bool {
+	return has&asked == asked
+}
+
+// pick finds the one with the number n in a list.
+func pick[T any](list []T, n int) (*T, error) {
+	if !below(n, len(list)) {
 		return nil, deny.Denial{Code: api.ErrArg}
 	}
-	return &m.spaces[n], nil
+	return &list[n], nil
 }
 
 // caller finds the number of the thread that makes a call.
@@ -71,4 +73,13 @@ func (m *Machine) caller() (int, error) {
 		return nobody, deny.Denial{Code: api.ErrNone}
 	}
 	return n, nil
+}
+
+// home finds the space of the thread that makes a call.
+func (m *Machine) home() (*space, error) {
+	n, err := m.caller()
+	if err != nil {
+		return nil, err
+	}
+	return &m.spaces[m.threads[n].place.Space], nil
 }

@@ -80,6 +80,36 @@ func TestNoCurrentThread(t *testing.T) {
 	}
 }
 
+func TestNoCurrentThreadHasPagesOrPasses(t *testing.T) {
+	m, err := New(api.Config{
+		Spaces:  1,
+		Threads: []api.Place{{}},
+		Passes:  []api.Pass{{Thread: 0, Rights: 3}},
+		Leaves:  []api.Leaf{{Frame: 0, Rights: 3}},
+	})
+	if err != nil {
+		t.Fatal(err)
+	}
+	m.rows[0].Leave(0)
+	for _, n := range []int{-1, 0, 1, 6} {
+		_, err := m.Load(n, n)
+		wantDenial(t, err, api.ErrNone, "Load")
+		wantDenial(t, m.Store(n, n, 5), api.ErrNone, "Store")
+		wantDenial(t, m.Unmap(n, true), api.ErrNone, "Unmap")
+		wantDenial(t, m.Unmap(n, false), api.ErrNone, "Unmap")
+		wantDenial(t, m.Derive(n, n, 1), api.ErrNone, "Derive")
+		wantDenial(t, m.Derive(n, n, 0), api.ErrNone, "Derive")
+		wantDenial(t, m.Drop(n), api.ErrNone, "Drop")
+	}
+	m.rows[0].ComeLast(0)
+	if n, err := m.Load(0, 0); n != 0 || err != nil {
+		t.Errorf("P1: after calls that were denied Load = %d, %v", n, err)
+	}
+	if err := m.Derive(0, 0, 3); err != nil {
+		t.Errorf("P1: after calls that were denied Derive = %v", err)
+	}
+}
+
 func TestTickTakesFromTheCurrentThreadAlone(t *testing.T) {
 	m := inRows(t, 1, 1, 0)
 	m.Tick()
@@ -113,6 +143,13 @@ func TestWhoMeetsADenial(t *testing.T) {
 	wantDenial(t, err, api.ErrArg, "Look")
 	_, err = m.Space(1)
 	wantDenial(t, err, api.ErrArg, "Space")
+	_, err = m.Load(0, 0)
+	wantDenial(t, err, api.ErrFault, "Load")
+	wantDenial(t, m.Store(0, api.Cells, 0), api.ErrArg, "Store")
+	wantDenial(t, m.Unmap(0, false), api.ErrPage, "Unmap")
+	wantDenial(t, m.Derive(0, 0, 1), api.ErrPass, "Derive")
+	wantDenial(t, m.Drop(0), api.ErrPass, "Drop")
+	wantDenial(t, m.Drop(-1), api.ErrArg, "Drop")
 	_, err = New(api.Config{})
 	wantDenial(t, err, api.ErrConfig, "New")
 	_, err = New(api.Config{Spaces: 1, Threads: []api.Place{{}, {Row: 4}}})

@@ -9,7 +9,7 @@ import (
 
 // Look tells of the thread n.
 func (m *Machine) Look(n int) (api.Thread, error) {
-	t, err := m.thread(n)
+	t, err := pick(m.threads, n)
 	if err != nil {
 		return api.Thread{}, deny.Met{By: "Look", Err: err}
 	}
@@ -20,7 +20,7 @@ func (m *Machine) Look(n int) (api.Thread, error) {
 
 // Space tells of the space n.
 func (m *Machine) Space(n int) (api.Space, error) {
-	s, err := m.space(n)
+	s, err := pick(m.spaces, n)
 	if err != nil {
 		return api.Space{}, deny.Met{By: "Space", Err: err}
 	}

@@ -36,19 +36,28 @@ func (k *Kernel) Ipc(m api.Message) api.Errno { return api.OK }
 func (k *Kernel) Yield() api.Errno { return number(k.machine.Yield()) }
 
 // Load reads memory (P8).
-func (k *Kernel) Load(page int, cell int) (int64, api.Errno) { return 0, api.OK }
+func (k *Kernel) Load(page int, cell int) (int64, api.Errno) {
+	n, err := k.machine.Load(page, cell)
+	return n, number(err)
+}
 
 // Store writes memory (P8).
-func (k *Kernel) Store(page int, cell int, n int64) api.Errno { return api.OK }
+func (k *Kernel) Store(page int, cell int, n int64) api.Errno {
+	return number(k.machine.Store(page, cell, n))
+}
 
 // Unmap takes back what was lent (P9).
-func (k *Kernel) Unmap(page int, own bool) api.Errno { return api.OK }
+func (k *Kernel) Unmap(page int, own bool) api.Errno {
+	return number(k.machine.Unmap(page, own))
+}
 
 // Derive makes a pass of another one (P9).
-func (k *Kernel) Derive(slot int, to int, rights int) api.Errno { return api.OK }
+func (k *Kernel) Derive(slot int, to int, rights int) api.Errno {
+	return number(k.machine.Derive(slot, to, rights))
+}
 
 // Drop throws a pass away (P9).
-func (k *Kernel) Drop(slot int) api.Errno { return api.OK }
+func (k *Kernel) Drop(slot int) api.Errno { return number(k.machine.Drop(slot)) }
 
 // Look tells of a thread (P10).
 func (k *Kernel) Look(thread int) (api.Thread, api.Errno) {

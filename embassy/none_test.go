@@ -2,6 +2,7 @@ package embassy
 
 import (
 	"errors"
+	"math"
 	"testing"
 
 	"embassy/api"
@@ -17,12 +18,34 @@ func TestNoneIsCurrent(t *testing.T) {
 	if e := k.Yield(); e != api.ErrNone {
 		t.Errorf("P4: Yield = %d, want ErrNone", e)
 	}
+	for _, n := range []int{math.MinInt, -1, 0, 1, api.Slots, math.MaxInt} {
+		wantNone(t, &k, n)
+	}
 	k.Tick()
 	if _, e := k.Look(0); e != api.ErrArg {
 		t.Errorf("P10: Look = %d, want ErrArg", e)
 	}
 	if _, e := k.Space(0); e != api.ErrArg {
 		t.Errorf("P10: Space = %d, want ErrArg", e)
+	}
+}
+
+// wantNone asks for ErrNone, which is named ahead of the error for a wrong number.
+func wantNone(t *testing.T, k *Kernel, n int) {
+	t.Helper()
+	number, e := k.Load(n, n)
+	if number != 0 || e != api.ErrNone {
+		t.Errorf("P8: Load(%d, %d) = %d, %d, want 0 and ErrNone", n, n, number, e)
+	}
+	for name, e := range map[string]api.Errno{
+		"P8: Store":  k.Store(n, n, 1),
+		"P9: Unmap":  k.Unmap(n, n < 1),
+		"P9: Derive": k.Derive(n, n, n),
+		"P9: Drop":   k.Drop(n),
+	} {
+		if e != api.ErrNone {
+			t.Errorf("%s at %d = %d, want ErrNone", name, n, e)
+		}
 	}
 }
 

@@ -47,8 +47,13 @@ func TestSpacesTellWhatTheyHave(t *testing.T) {
 	slices.Reverse(c.Leaves)
 	c.Passes = slices.Delete(c.Passes, 3, 9)
 	c.Leaves = slices.Delete(c.Leaves, 5, 7)
-	k := boot(t, c)
-	for s := range api.MaxSpaces {
+	wantSpaces(t, boot(t, c), c)
+}
+
+// wantSpaces asks that the spaces of k have the passes and leaves of c.
+func wantSpaces(t *testing.T, k *embassy.Kernel, c api.Config) {
+	t.Helper()
+	for s := range c.Spaces {
 		x, e := k.Space(s)
 		if e != api.OK {
 			t.Errorf("P10: Space(%d) = %d", s, e)
