@@ -24,9 +24,11 @@ type Machine struct {
 }
 
 type thread struct {
-	place api.Place
-	left  int        // ticks until another one of its row has its turn
-	told  api.Thread // what Look tells
+	place   api.Place
+	left    int            // ticks until another one of its row has its turn
+	told    api.Thread     // what Look tells
+	talk    talk           // what its Ipc still has to do
+	waiting line.Line[int] // those who are Sending to it
 }
 
 type space struct {

@@ -2,6 +2,7 @@ package core
 
 import (
 	"errors"
+	"reflect"
 	"testing"
 
 	"embassy/api"
@@ -48,14 +49,21 @@ func TestClock(t *testing.T) {
 	}
 }
 
-// No call takes a thread out of its row as long as nothing is sent, so these tests do it by hand.
+// sleep lets the current thread receive for so many ticks.
+func sleep(t *testing.T, m *Machine, wait int) {
+	t.Helper()
+	if err := m.Ipc(api.Message{To: noSlot, Words: []int64{9}, Item: nothing, From: whoever, Window: nothing, Wait: wait}); err != nil {
+		t.Errorf("P5: Ipc = %v", err)
+	}
+}
+
 func TestNoCurrentThread(t *testing.T) {
 	m := inRows(t, 0, 3)
-	m.rows[3].Leave(1)
+	sleep(t, &m, forever)
 	if n := m.Current(); n != 0 {
 		t.Errorf("P3: Current = %d, want the one of row 0", n)
 	}
-	m.rows[0].Leave(0)
+	sleep(t, &m, forever)
 	if n := m.Current(); n != -1 {
 		t.Errorf("P3: Current = %d, want -1", n)
 	}
@@ -90,8 +98,9 @@ func TestNoCurrentThreadHasPagesOrPasses(t *testing.T) {
 	if err != nil {
 		t.Fatal(err)
 	}
-	m.rows[0].Leave(0)
+	sleep(t, &m, 1)
 	for _, n := range []int{-1, 0, 1, 6} {
+		wantDenial(t, m.Ipc(api.Message{To: n, From: n}), api.ErrNone, "Ipc")
 		_, err := m.Load(n, n)
 		wantDenial(t, err, api.ErrNone, "Load")
 		wantDenial(t, m.Store(n, n, 5), api.ErrNone, "Store")
@@ -101,7 +110,7 @@ func TestNoCurrentThreadHasPagesOrPasses(t *testing.T) {
 		wantDenial(t, m.Derive(n, n, 0), api.ErrNone, "Derive")
 		wantDenial(t, m.Drop(n), api.ErrNone, "Drop")
 	}
-	m.rows[0].ComeLast(0)
+	m.Tick()
 	if n, err := m.Load(0, 0); n != 0 || err != nil {
 		t.Errorf("P1: after calls that were denied Load = %d, %v", n, err)
 	}
@@ -150,11 +159,68 @@ func TestWhoMeetsADenial(t *testing.T) {
 	wantDenial(t, m.Derive(0, 0, 1), api.ErrPass, "Derive")
 	wantDenial(t, m.Drop(0), api.ErrPass, "Drop")
 	wantDenial(t, m.Drop(-1), api.ErrArg, "Drop")
+	wantDenial(t, m.Ipc(api.Message{To: api.Slots}), api.ErrArg, "Ipc")
 	_, err = New(api.Config{})
 	wantDenial(t, err, api.ErrConfig, "New")
 	_, err = New(api.Config{Spaces: 1, Threads: []api.Place{{}, {Row: 4}}})
 	wantDenial(t, err, api.ErrConfig, "New")
 	if want := "New: thread 1: denied with error 1"; err == nil || err.Error() != want {
 		t.Errorf("New = %v, want %s", err, want)
+	}
+}
+
+// What was delivered is kept where it has come to, and nowhere else.
+func TestDeliveredWordsAreKeptOnce(t *testing.T) {
+	m, err := New(api.Config{Spaces: 1, Threads: []api.Place{{}, {}}, Passes: []api.Pass{{Thread: 1, Rights: 1}}})
+	if err != nil {
+		t.Fatal(err)
+	}
+	if err := m.Ipc(api.Message{Words: []int64{1, 2}, Item: nothing, From: whoever, Window: nothing, Wait: forever}); err != nil {
+		t.Errorf("P5: Ipc = %v", err)
+	}
+	sleep(t, &m, forever)
+	if x := m.threads[0]; x.told.State != api.Receiving || x.talk.words != nil {
+		t.Errorf("thread 0 has %+v", x)
+	}
+	if x := m.threads[1]; len(x.told.Words) != 2 {
+		t.Errorf("thread 1 has %+v", x)
+	}
+	// words of a message that is not sent are not kept at all
+	sleep(t, &m, forever)
+	if x := m.threads[1]; x.told.State != api.Receiving || x.talk.words != nil {
+		t.Errorf("thread 1 has %+v", x)
+	}
+}
+
+// Of an Ipc that is over nothing is kept but what Look tells, and nobody waits for a thread but who is Sending to it.
+func TestNothingIsKeptOfWhatIsOver(t *testing.T) {
+	m, err := New(api.Config{
+		Spaces:  1,
+		Threads: []api.Place{{}, {}},
+		Passes:  []api.Pass{{Slot: 0, Thread: 0, Rights: 1}, {Slot: 1, Thread: 1, Rights: 1}},
+	})
+	if err != nil {
+		t.Fatal(err)
+	}
+	words := []int64{1, 2}
+	for _, msg := range []api.Message{
+		{To: 1, Words: words, Item: nothing, From: noOne, Window: nothing, Wait: 2},
+		{To: noSlot, Words: words, Item: nothing, From: whoever, Window: nothing, Wait: 2},
+		{To: 0, Words: words, Item: nothing, From: noOne, Window: nothing, Wait: 2},
+		{To: 5, Words: words, Item: nothing, From: noOne, Window: nothing, Wait: 2},
+	} {
+		if err := m.Ipc(msg); err != nil {
+			t.Errorf("P5: Ipc = %v", err)
+		}
+		m.Tick()
+	}
+	m.Tick()
+	for n := range m.threads {
+		if x := m.threads[n].talk; !reflect.DeepEqual(x, talk{}) {
+			t.Errorf("thread %d still has %+v to do", n, x)
+		}
+		if x, ok := m.threads[n].waiting.First(); ok {
+			t.Errorf("thread %d still waits for thread %d", x, n)
+		}
 	}
 }

@@ -3,6 +3,7 @@ package core
 import (
 	"embassy/api"
 	"embassy/deny"
+	"embassy/line"
 )
 
 // Current tells the number of the first thread of the highest row in which one stands, or -1.
@@ -20,6 +21,11 @@ func (m *Machine) Tick() {
 	m.clock++
 	if n := m.Current(); n != nobody {
 		m.spend(n)
+	}
+	for n := range m.threads {
+		if m.threads[n].talk.time == m.clock {
+			m.giveUp(n)
+		}
 	}
 }
 
@@ -44,7 +50,11 @@ func (m *Machine) spend(n int) {
 
 // endTurn gives thread n a whole slice for its next turn, and sends it to the end of its row.
 func (m *Machine) endTurn(n int) {
-	t := &m.threads[n]
-	t.left = api.Slice
-	m.rows[t.place.Row].ComeLast(n)
+	m.threads[n].left = api.Slice
+	m.row(n).ComeLast(n)
+}
+
+// row finds the row of thread n.
+func (m *Machine) row(n int) *line.Line[int] {
+	return &m.rows[m.threads[n].place.Row]
 }

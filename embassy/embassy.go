@@ -30,7 +30,7 @@ func (k *Kernel) Current() int { return k.machine.Current() }
 func (k *Kernel) Tick() { k.machine.Tick() }
 
 // Ipc sends and receives (P5).
-func (k *Kernel) Ipc(m api.Message) api.Errno { return api.OK }
+func (k *Kernel) Ipc(m api.Message) api.Errno { return number(k.machine.Ipc(m)) }
 
 // Yield lets others run (P7).
 func (k *Kernel) Yield() api.Errno { return number(k.machine.Yield()) }

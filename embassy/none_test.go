@@ -9,8 +9,8 @@ import (
 	"embassy/deny"
 )
 
-// A kernel without threads is the only one with no current thread as long as nothing is sent.
-func TestNoneIsCurrent(t *testing.T) {
+// A kernel that New did not make has no threads.
+func TestAKernelWithoutThreads(t *testing.T) {
 	var k Kernel
 	if n := k.Current(); n != -1 {
 		t.Errorf("P3: Current = %d, want -1", n)
@@ -42,6 +42,7 @@ func wantNone(t *testing.T, k *Kernel, n int) {
 		"P9: Unmap":  k.Unmap(n, n < 1),
 		"P9: Derive": k.Derive(n, n, n),
 		"P9: Drop":   k.Drop(n),
+		"P5: Ipc":    k.Ipc(api.Message{To: n, From: n, Wait: n}),
 	} {
 		if e != api.ErrNone {
 			t.Errorf("%s at %d = %d, want ErrNone", name, n, e)

@@ -10,11 +10,22 @@ type Line[T comparable] struct {
 
 // First tells who stands first, and whether somebody stands there at all.
 func (l *Line[T]) First() (T, bool) {
-	if len(l.list) == 0 {
-		var nobody T
-		return nobody, false
+	return l.FirstOf(func(T) bool { return true })
+}
+
+// FirstOf tells who stands first among those that fit, and whether one of them stands there at all.
+func (l *Line[T]) FirstOf(fits func(T) bool) (T, bool) {
+	if at := slices.IndexFunc(l.list, fits); at >= 0 {
+		return l.list[at], true
 	}
-	return l.list[0], true
+	var nobody T
+	return nobody, false
+}
+
+// ComeFirst puts x ahead of all others, wherever it stood.
+func (l *Line[T]) ComeFirst(x T) {
+	l.Leave(x)
+	l.list = slices.Insert(l.list, 0, x)
 }
 
 // ComeLast puts x behind all others, wherever it stood.
