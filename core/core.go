@@ -44,6 +44,8 @@ type pass struct {
 // leaf without rights is none: the page is empty.
 type leaf struct {
 	frame, rights int
+	// nil, if it was there at first. This may point into a space, since no space is ever added, so that none moves.
+	parent *leaf
 }
 
 // below tells if n is one of the numbers from 0 on that are less than bound.

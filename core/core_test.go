@@ -170,16 +170,16 @@ func TestWhoMeetsADenial(t *testing.T) {
 }
 
 // What was delivered is kept where it has come to, and nowhere else.
-func TestDeliveredWordsAreKeptOnce(t *testing.T) {
-	m, err := New(api.Config{Spaces: 1, Threads: []api.Place{{}, {}}, Passes: []api.Pass{{Thread: 1, Rights: 1}}})
+func TestAParcelIsKeptOnce(t *testing.T) {
+	m, err := New(api.Config{Spaces: 1, Threads: []api.Place{{}, {}}, Passes: []api.Pass{{Thread: 1, Rights: 3}}})
 	if err != nil {
 		t.Fatal(err)
 	}
-	if err := m.Ipc(api.Message{Words: []int64{1, 2}, Item: nothing, From: whoever, Window: nothing, Wait: forever}); err != nil {
+	if err := m.Ipc(api.Message{Words: []int64{1, 2}, Item: 4, Rights: 3, From: whoever, Window: nothing, Wait: forever}); err != nil {
 		t.Errorf("P5: Ipc = %v", err)
 	}
 	sleep(t, &m, forever)
-	if x := m.threads[0]; x.told.State != api.Receiving || x.talk.words != nil {
+	if x := m.threads[0]; x.told.State != api.Receiving || !reflect.DeepEqual(x.talk.parcel, parcel{}) {
 		t.Errorf("thread 0 has %+v", x)
 	}
 	if x := m.threads[1]; len(x.told.Words) != 2 {
@@ -187,7 +187,7 @@ func TestDeliveredWordsAreKeptOnce(t *testing.T) {
 	}
 	// words of a message that is not sent are not kept at all
 	sleep(t, &m, forever)
-	if x := m.threads[1]; x.told.State != api.Receiving || x.talk.words != nil {
+	if x := m.threads[1]; x.told.State != api.Receiving || !reflect.DeepEqual(x.talk.parcel, parcel{}) {
 		t.Errorf("thread 1 has %+v", x)
 	}
 }
@@ -197,17 +197,17 @@ func TestNothingIsKeptOfWhatIsOver(t *testing.T) {
 	m, err := New(api.Config{
 		Spaces:  1,
 		Threads: []api.Place{{}, {}},
-		Passes:  []api.Pass{{Slot: 0, Thread: 0, Rights: 1}, {Slot: 1, Thread: 1, Rights: 1}},
+		Passes:  []api.Pass{{Slot: 0, Thread: 0, Rights: 3}, {Slot: 1, Thread: 1, Rights: 3}},
 	})
 	if err != nil {
 		t.Fatal(err)
 	}
 	words := []int64{1, 2}
 	for _, msg := range []api.Message{
-		{To: 1, Words: words, Item: nothing, From: noOne, Window: nothing, Wait: 2},
-		{To: noSlot, Words: words, Item: nothing, From: whoever, Window: nothing, Wait: 2},
-		{To: 0, Words: words, Item: nothing, From: noOne, Window: nothing, Wait: 2},
-		{To: 5, Words: words, Item: nothing, From: noOne, Window: nothing, Wait: 2},
+		{To: 1, Words: words, Item: 4, Rights: 3, From: noOne, Window: 5, Wait: 2},
+		{To: noSlot, Words: words, Item: 4, Rights: 3, From: whoever, Window: 5, Wait: 2},
+		{To: 0, Words: words, Item: 4, Rights: 3, From: noOne, Window: 5, Wait: 2},
+		{To: 5, Words: words, Item: 4, Rights: 3, From: noOne, Window: 5, Wait: 2},
 	} {
 		if err := m.Ipc(msg); err != nil {
 			t.Errorf("P5: Ipc = %v", err)

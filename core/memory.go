@@ -27,12 +27,13 @@ func (m *Machine) Store(page, cell int, n int64) error {
 	return nil
 }
 
-// Unmap takes back what was lent of the caller's page; with own, the page is empty then. Nothing can be lent so far, so there is nothing to take back.
+// Unmap takes back what was lent of the caller's page; with own, the page is empty then.
 func (m *Machine) Unmap(page int, own bool) error {
 	l, err := m.leaf(page)
 	if err != nil {
 		return deny.Met{By: "Unmap", Err: err}
 	}
+	m.takeBack(l)
 	if own {
 		*l = leaf{}
 	}

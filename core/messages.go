@@ -15,11 +15,12 @@ const (
 
 // talk is what the Ipc of a thread still has to do. When that is over there is none of it.
 type talk struct {
-	to    int     // the thread that it waits for, while it is Sending
-	words []int64 // what it has not delivered yet
-	from  int     // whom it receives from
-	wait  int     // how many ticks it waits for that
-	time  uint64  // the clock at which it gives up; 0, which the clock never is after a tick: it does not
+	to     int    // the thread that it waits for, while it is Sending
+	parcel parcel // what it has not delivered yet
+	from   int    // whom it receives from
+	window int    // the page in which what is lent to it may come, or nothing
+	wait   int    // how many ticks it waits for that
+	time   uint64 // the clock at which it gives up; 0, which the clock never is after a tick: it does not
 }
 
 // Ipc lets the caller begin to send, or to receive.
@@ -32,13 +33,14 @@ func (m *Machine) Ipc(msg api.Message) error {
 		return deny.Met{By: "Ipc", Err: deny.Denial{Code: api.ErrArg}}
 	}
 	t := &m.threads[n]
-	t.talk = talk{from: msg.From, wait: msg.Wait}
+	t.talk = talk{from: msg.From, window: msg.Window, wait: msg.Wait}
 	if msg.To == noSlot {
 		m.receive(n)
 		return nil
 	}
 	// A clone of an empty list would still point to the caller's memory.
-	t.talk.words = append([]int64(nil), msg.Words...)
+	words := append([]int64(nil), msg.Words...)
+	t.talk.parcel = parcel{words: words, item: msg.Item, rights: msg.Rights}
 	m.send(n, msg.To)
 	return nil
 }
@@ -61,6 +63,10 @@ func (m *Machine) send(n, slot int) {
 	if !holds(p.rights, api.Speak) || p.thread == n {
 		m.end(n, api.ErrPass)
 		return
+	}
+	// Whether it may lend is settled now, whatever becomes of the pass while it waits.
+	if !holds(p.rights, api.Lend) {
+		t.talk.parcel.item = nothing
 	}
 	other := &m.threads[p.thread]
 	if other.told.State == api.Receiving && other.talk.hears(n) {
@@ -107,14 +113,15 @@ func (t *talk) hears(n int) bool {
 	return t.from == whoever || t.from == n
 }
 
-// deliver gives the words of thread from to thread to, for which it is over by that.
+// deliver gives the parcel of thread from to thread to, for which it is over by that.
 func (m *Machine) deliver(from, to int) {
-	words := m.threads[from].talk.words
-	m.threads[from].talk.words = nil
-	if m.threads[to].told.State != api.Ready {
+	sender, receiver := &m.threads[from], &m.threads[to]
+	told := api.Thread{Code: api.OK, From: from, Words: sender.talk.parcel.words, Got: m.lend(sender, receiver)}
+	sender.talk.parcel = parcel{}
+	if receiver.told.State != api.Ready {
 		m.row(to).ComeFirst(to)
 	}
-	m.over(to, api.Thread{Code: api.OK, From: from, Words: words, Got: nothing})
+	m.over(to, told)
 }
 
 // end says how it went for thread n, to which nothing was delivered.

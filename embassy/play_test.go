@@ -2,6 +2,7 @@ package embassy_test
 
 import (
 	"math/rand"
+	"slices"
 	"testing"
 
 	"embassy/api"
@@ -13,13 +14,22 @@ type plain struct {
 	who    func() int // the current thread
 	c      api.Config
 	memory map[[2]int]int64 // by frame and cell
+	above  map[spot][]spot  // of a leaf that was lent: where its parent is, and the parent of that, up to one that was there at first
+}
+
+type spot struct{ space, page int }
+
+func where(l api.Leaf) spot { return spot{l.Space, l.Page} }
+
+func newPlain(who func() int, c api.Config) plain {
+	return plain{who: who, c: cloned(c), memory: map[[2]int]int64{}, above: map[spot][]spot{}}
 }
 
 func (p *plain) home() int { return p.c.Threads[p.who()].Space }
 
-func (p *plain) findLeaf(page int) int {
+func (p *plain) findLeaf(there spot) int {
 	for n, l := range p.c.Leaves {
-		if l.Space == p.home() && l.Page == page {
+		if where(l) == there {
 			return n
 		}
 	}
@@ -40,7 +50,7 @@ func (p *plain) reach(page, cell, right int) ([2]int, api.Errno) {
 	if page < 0 || page >= 6 || cell < 0 || cell >= 4 {
 		return [2]int{}, api.ErrArg
 	}
-	n := p.findLeaf(page)
+	n := p.findLeaf(spot{p.home(), page})
 	if n < 0 || p.c.Leaves[n].Rights != right && p.c.Leaves[n].Rights != 3 {
 		return [2]int{}, api.ErrFault
 	}
@@ -67,14 +77,38 @@ func (p *plain) unmap(page int, own bool) api.Errno {
 	if page < 0 || page >= 6 {
 		return api.ErrArg
 	}
-	n := p.findLeaf(page)
-	if n < 0 {
+	if p.findLeaf(spot{p.home(), page}) < 0 {
 		return api.ErrPage
 	}
-	if own {
-		p.c.Leaves = append(p.c.Leaves[:n], p.c.Leaves[n+1:]...)
-	}
+	p.clear(spot{p.home(), page}, own)
 	return api.OK
+}
+
+// clear throws away all leaves below the one that is there, and that one too, if own.
+func (p *plain) clear(there spot, own bool) {
+	p.c.Leaves = slices.DeleteFunc(p.c.Leaves, func(l api.Leaf) bool {
+		return own && where(l) == there || slices.Contains(p.above[where(l)], there)
+	})
+}
+
+// give lends a leaf, and tells if one came.
+func (p *plain) give(item spot, rights int, window spot) bool {
+	p.clear(window, true)
+	n := p.findLeaf(item)
+	if n < 0 {
+		return false
+	}
+	l := p.c.Leaves[n]
+	switch {
+	case rights == 0 || l.Rights+rights == 3:
+		return false
+	case rights != 3:
+		l.Rights = rights
+	}
+	l.Space, l.Page = window.space, window.page
+	p.c.Leaves = append(p.c.Leaves, l)
+	p.above[window] = append([]spot{item}, p.above[item]...)
+	return true
 }
 
 func (p *plain) derive(slot, to, rights int) api.Errno {
@@ -124,14 +158,14 @@ func mixed(r *rand.Rand) api.Config {
 	return c
 }
 
-// step makes one call by chance on both, and tells what it was and what each answered.
-func (p *plain) step(k *embassy.Kernel, r *rand.Rand) (what string, got, want [2]int64) {
+// use makes one call by chance on both, and tells what it was and what each answered.
+func (p *plain) use(k *embassy.Kernel, r *rand.Rand) (what string, got, want [2]int64) {
 	a, b := r.Intn(8)-1, r.Intn(8)-1
 	n, own := r.Int63()-r.Int63(), r.Intn(5) == 0
 	both := func(name string, e, f api.Errno) (string, [2]int64, [2]int64) {
 		return name, [2]int64{int64(e)}, [2]int64{int64(f)}
 	}
-	switch r.Intn(12) {
+	switch r.Intn(10) {
 	case 0, 1, 2:
 		x, e := k.Load(a, b%5)
 		y, f := p.load(a, b%5)
@@ -143,14 +177,9 @@ func (p *plain) step(k *embassy.Kernel, r *rand.Rand) (what string, got, want [2
 	case 7, 8:
 		rights := r.Intn(5)
 		return both("Derive", k.Derive(a, b, rights), p.derive(a, b, rights))
-	case 9:
-		return both("Drop", k.Drop(a), p.drop(a))
-	case 10:
-		k.Tick()
 	default:
-		k.Yield()
+		return both("Drop", k.Drop(a), p.drop(a))
 	}
-	return "", got, want
 }
 
 func TestManyCallsOnMemoryAndPasses(t *testing.T) {
@@ -158,9 +187,15 @@ func TestManyCallsOnMemoryAndPasses(t *testing.T) {
 	for round := range 200 {
 		c := mixed(r)
 		k := boot(t, c)
-		p := &plain{who: k.Current, c: cloned(c), memory: map[[2]int]int64{}}
+		p := newPlain(k.Current, c)
 		for step := range 100 {
-			what, got, want := p.step(k, r)
+			switch r.Intn(12) {
+			case 0:
+				k.Tick()
+			case 1:
+				k.Yield()
+			}
+			what, got, want := p.use(k, r)
 			if got != want {
 				t.Fatalf("P8, P9: round %d, step %d: %s = %d, want %d", round, step, what, got, want)
 			}

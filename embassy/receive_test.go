@@ -209,27 +209,3 @@ func TestARingThatOneLeaves(t *testing.T) {
 	wantThreads(t, k, receiving(fresh), heard(api.OK, 0, 10), heard(api.OK, 1, 11))
 	wantOrder(t, k, 1, 2)
 }
-
-// The document's example, as far as nothing is lent.
-func TestExampleWithoutLending(t *testing.T) {
-	k := boot(t, api.Config{
-		Spaces:  2,
-		Threads: []api.Place{{Space: 0, Row: 1}, {Space: 1, Row: 1}},
-		Passes:  []api.Pass{{Space: 0, Slot: 0, Thread: 1, Rights: 3}, {Space: 1, Slot: 0, Thread: 0, Rights: 1}},
-		Leaves:  []api.Leaf{{Space: 0, Page: 2, Frame: 3, Rights: 3}},
-	})
-	wantStore(t, k, 2, 1, 77, api.OK)
-	wantLoad(t, k, 2, 1, 77, api.OK)
-	wantLoad(t, k, 3, 1, 0, api.ErrFault)
-	ipc(t, k, 0, call(0, -1, 5, 6))
-	wantThreads(t, k, sending(fresh), fresh)
-	ipc(t, k, 1, during(0, receive(-1)))
-	wantThreads(t, k, receiving(fresh), heard(api.OK, 0, 5, 6))
-	ipc(t, k, 1, during(2, call(0, 0, 9)))
-	wantThreads(t, k, heard(api.OK, 1, 9), receiving(heard(api.OK, 0, 5, 6)))
-	wantCurrent(t, k, 0)
-	k.Tick()
-	wantThread(t, k, 1, receiving(heard(api.OK, 0, 5, 6)))
-	k.Tick()
-	wantThreads(t, k, heard(api.OK, 1, 9), idle(api.ErrTimeout))
-}
